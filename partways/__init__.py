@@ -1,0 +1,1 @@
+"""Partways: numbers told as sums of parts."""
