@@ -12,6 +12,13 @@ INTERFACE = {
     "errors": {"PartsError": None, "BadSum": None, "BadNumber": None, "NotSuch": None, "TooMany": None},
     "sums": {"whole": ["parts"], "often": ["parts"], "turned": ["parts"], "is_own": ["parts"]},
     "leading": {"spread": ["parts", "by"], "gathered": ["parts", "by"]},
+    "answers": {"Answer": None, "Partner": None, "Alone": None},
+    "partners": {"partner": ["parts"]},
+    "folding": {"folded": ["parts"], "hooks": ["parts"]},
+}
+METHODS_LISTED = {
+    "answers": {"Partner": {"__init__": ["self", "parts"], "shows": ["self", "parts"]},
+                "Alone": {"__init__": ["self", "many"], "shows": ["self", "parts"]}},
 }
 
 STATEMENTS = (ast.Expr, ast.Assign, ast.AugAssign, ast.If, ast.While, ast.For, ast.Return, ast.Break, ast.Continue,
@@ -46,6 +53,15 @@ class InterfaceTest(unittest.TestCase):
                     self.assertIn(word, classes)
                 else:
                     self.assertEqual(functions[word], arguments)
+
+    def test_methods_stand_in_their_classes(self):
+        for name, listed in METHODS_LISTED.items():
+            tree = ast.parse((PACKAGE / (name + ".py")).read_text("ascii"))
+            classes = {node.name: node for node in tree.body if isinstance(node, ast.ClassDef)}
+            for word, methods in listed.items():
+                found = {node.name: [arg.arg for arg in node.args.args] for node in classes[word].body
+                         if isinstance(node, ast.FunctionDef)}
+                self.assertEqual(found, methods)
 
 
 class LanguageTest(unittest.TestCase):
@@ -99,8 +115,8 @@ class LanguageTest(unittest.TestCase):
     def test_modules_hold_definitions_only(self):
         for path, tree in trees():
             for node in tree.body:
-                docstring = isinstance(node, ast.Expr) and isinstance(node.value, ast.Constant)
-                self.assertTrue(docstring or isinstance(node, (ast.ImportFrom, ast.FunctionDef, ast.ClassDef)),
+                plain = isinstance(node, (ast.Expr, ast.Assign)) and isinstance(node.value, ast.Constant)
+                self.assertTrue(plain or isinstance(node, (ast.ImportFrom, ast.FunctionDef, ast.ClassDef)),
                                 (path.name, node.lineno))
 
 
